@@ -158,13 +158,28 @@ func TestClasses(t *testing.T) {
 	}
 }
 
-// A step whose class was End was the last one, though a lookup gives it to a glyph.
+// A glyph whose class is that of the end stands within the line: the step at it isn't the last one.
 func TestGlyphOfTheClassEnd(t *testing.T) {
 	l, n, e := traced(by(t), line.New(5, 0, 4), drive.Plain(nil))
-	if n != 2 || e != api.OK || !slices.Equal(l, []step{{0, api.Entry{A: 5}}, {1, api.Entry{}}}) {
+	want := []step{{0, api.Entry{A: 5}}, {1, api.Entry{}}, {2, api.Entry{A: 4}}, {3, api.Entry{}}}
+	if n != 4 || e != api.OK || !slices.Equal(l, want) {
 		t.Error("a glyph of the class End", l, n, e)
 	}
-	ran(t, "a glyph of the class End where the machine rests", row(t, drive.Stay, 0), line.New(0, 4), drive.Plain(nil), 2, api.OK)
+	l, n, e = traced(alone(t, api.Entry{}), line.New(0, 0), drive.Plain(nil))
+	if n != 3 || e != api.OK || !slices.Equal(places(l), []int{0, 1, 2}) {
+		t.Error("a line of glyphs of the class End", l, n, e)
+	}
+	ran(t, "a last glyph of the class End", by(t), line.New(4, 0), drive.Plain(nil), 3, api.OK)
+	ran(t, "a glyph of the class End where the machine rests", row(t, drive.Stay, 0), line.New(0, 4), drive.Plain(nil), 4, api.OK)
+	ran(t, "a glyph of the class End where it rests too often", row(t, drive.Stay), line.New(0), drive.Plain(nil), 65, api.ErrBudget)
+	ran(t, "a glyph of the class End that is never left", by(t), line.New(0, 0), func(int, api.Entry) (int, int) { return 0, 0 }, 132, api.ErrBudget)
+	b := line.New(4)
+	ran(t, "a glyph of the class End that is put in at the end", by(t), b, func(i int, _ api.Entry) (int, int) {
+		if b.Len() == 1 {
+			b.Insert(1, 0)
+		}
+		return i, i + 1
+	}, 3, api.OK)
 }
 
 // Where the machine goes on, it is at the second place that act answered, and at the first one where it stays.
@@ -441,11 +456,11 @@ func model(states [][]int, entries []api.Entry, ids []int, leads [][2]int) ([]st
 		l = append(l, step{at, e})
 		lead := leads[(len(l)-1)%len(leads)]
 		now = e.Next
-		rest := e.Flags>>14&1 == 1
+		rest, end := e.Flags>>14&1 == 1, at >= len(ids)
 		switch {
 		case rest && rests == 64:
 			return l, api.ErrBudget
-		case !rest && class == 0:
+		case !rest && end:
 			return l, api.OK
 		case len(l) == 2*len(ids)+128:
 			return l, api.ErrBudget

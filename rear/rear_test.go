@@ -19,8 +19,10 @@ const (
 	first   = 0x8000
 	stay    = 0x4000
 	last    = 0x2000
-	classes = 8 // of the glyphs 4 to 7, which have these as classes
-	fits    = 9 // glyphs of the tests' font
+	classes = 8  // of the glyphs 4 to 7, which have these as classes
+	fits    = 9  // glyphs of the tests' font
+	ended   = 3  // a glyph that has the class of the line's end, 0
+	laidAt  = 32 // where the states stand
 )
 
 // entry: a next state, and flags.
@@ -34,9 +36,8 @@ func laid(states [][]int, entries []entry) []byte {
 			b = binary.BigEndian.AppendUint16(b, uint16(n))
 		}
 	}
-	behind := 16 + 2*7
-	put(0, classes, 0, 16, 0, behind, 0, behind+2*classes*len(states))
-	put(8, 4, 4, 4, 5, 6, 7)
+	put(0, classes, 0, 16, 0, laidAt, 0, laidAt+2*classes*len(states))
+	put(8, ended, 5, 0, 4, 5, 6, 7)
 	for _, s := range states {
 		put(s...)
 	}
@@ -147,7 +148,7 @@ func TestReadOfNoMachine(t *testing.T) {
 		at, num int
 	}{
 		{"too few classes", 2, 3}, {"too many classes", 0, 1}, {"a lookup behind the bytes", 6, 0x7FFF}, {"no lookup", 16, 3},
-		{"states behind the bytes", 10, 0x7FFF}, {"entries behind the bytes", 14, 0x7FFF}, {"an entry that isn't there", 30, 2}, {"a state that isn't there", 30 + 4*classes, 2},
+		{"states behind the bytes", 10, 0x7FFF}, {"entries behind the bytes", 14, 0x7FFF}, {"an entry that isn't there", laidAt, 2}, {"a state that isn't there", laidAt + 4*classes, 2},
 	} {
 		b := bytes.Clone(whole)
 		binary.BigEndian.PutUint16(b[c.at:], uint16(c.num))
@@ -287,6 +288,27 @@ func TestEnd(t *testing.T) {
 	}
 }
 
+// A glyph whose class is that of the line's end stands within the line: Last there is the place behind it, and the machine goes on.
+func TestGlyphOfTheClassEnd(t *testing.T) {
+	x := table(t, [][]int{{0, 0, 0, 0, 0, 0, 0, 0}, {0, 0, 0, 0, 0, 0, 0, 0}, {1, 0, 0, 0, 0, 0, 0, 0}}, []entry{{2, last | 0x1000 | 1}, {0, 0}})
+	b := line.New(ended, ended, ended)
+	if e := x.Run(b); e != api.OK || !slices.Equal(clusters(b), []int{1, 2, 0}) {
+		t.Error("glyphs of the class End", b.Glyphs(), e)
+	}
+	x = table(t, [][]int{{2, 0, 0, 0, 0, 1, 2, 0}, {0, 0, 0, 0, 0, 1, 0, 0}}, []entry{{1, 0}, {0, first}, {1, last | 3}})
+	for _, c := range []struct{ ids, want []int }{
+		{[]int{5, ended}, []int{1, 0}},
+		{[]int{5, ended, 4}, []int{1, 0, 2}},
+		{[]int{ended, 5, 6, 4}, []int{0, 2, 1, 3}},
+		{[]int{ended, ended, 5, ended, ended}, []int{0, 1, 3, 2, 4}},
+	} {
+		b := line.New(c.ids...)
+		if e := x.Run(b); e != api.OK || !slices.Equal(clusters(b), c.want) {
+			t.Errorf("along %v: %v, %v, not %v", c.ids, clusters(b), e, c.want)
+		}
+	}
+}
+
 // Where the machine rests, it does so at its own place, and is there at the glyph that stands there now.
 func TestRests(t *testing.T) {
 	ran(t, "a row of rests", 3, []int{1, 0, 2}, first, last|stay|1, stay|1, 1, 0)
@@ -394,8 +416,8 @@ func model(states [][]int, entries []entry, l []api.Glyph) ([]api.Glyph, api.Err
 	l = slices.Clone(l)
 	now, at, rests, from, to := 0, 0, 0, 0, 0
 	for range 2*len(l) + 128 {
-		class := 0
-		if at < len(l) {
+		class, end := 0, at >= len(l)
+		if !end && l[at].ID != ended {
 			class = 1
 			if id := l[at].ID; id == api.Deleted {
 				class = 2
@@ -409,7 +431,7 @@ func model(states [][]int, entries []entry, l []api.Glyph) ([]api.Glyph, api.Err
 		}
 		if e.flags>>13&1 == 1 {
 			to = at + 1
-			if class == 0 {
+			if end {
 				to = at
 			}
 		}
@@ -421,7 +443,7 @@ func model(states [][]int, entries []entry, l []api.Glyph) ([]api.Glyph, api.Err
 		}
 		now = e.next
 		switch {
-		case e.flags>>14&1 == 0 && class == 0:
+		case e.flags>>14&1 == 0 && end:
 			return l, api.OK
 		case e.flags>>14&1 == 0:
 			at, rests = at+1, 0
